@@ -1,0 +1,60 @@
+import unittest
+
+from wallspace import errors
+from wallspace.errors import NoFace, NoLand, NoNumber, NoPlace, NoWall, WallError
+from wallspace.ratios import over, ratio
+from wallspace.walls import looked, wall
+
+REFUSALS = (NoNumber, NoLand, NoFace, NoPlace, NoWall)
+
+
+class TheClasses(unittest.TestCase):
+    def test_any_refusal_stands_under_value_error(self):
+        self.assertEqual(WallError.__bases__, (ValueError,))
+
+    def test_each_refusal_stands_straight_under_wall_error(self):
+        for refusal in REFUSALS:
+            self.assertEqual(refusal.__bases__, (WallError,), refusal)
+
+    def test_they_have_their_names(self):
+        for name in ("WallError", "NoNumber", "NoLand", "NoFace", "NoPlace", "NoWall"):
+            self.assertEqual(getattr(errors, name).__name__, name)
+
+    def test_no_wall_keeps_its_place(self):
+        for place in (0, 1, 11, 10 ** 40):
+            self.assertEqual(NoWall(place).place, place)
+        self.assertEqual(NoWall(place=3).place, 3)
+
+    def test_each_no_wall_keeps_its_own_place(self):
+        one = NoWall(1)
+        other = NoWall(2)
+        self.assertEqual((one.place, other.place), (1, 2))
+
+
+class EachRefusal(unittest.TestCase):
+    def check(self, expected, deed):
+        for caught_as in (expected, WallError, ValueError):
+            try:
+                deed()
+            except caught_as as error:
+                self.assertIs(type(error), expected)
+                for other in REFUSALS:
+                    self.assertEqual(isinstance(error, other), other is expected)
+            else:
+                self.fail("not refused")
+
+    def test_a_bottom_of_0(self):
+        self.check(NoNumber, lambda: ratio(1, 0))
+
+    def test_a_quotient_by_0(self):
+        self.check(NoNumber, lambda: over((1, 2), (0, 1)))
+
+    def test_numbers_that_make_no_wall(self):
+        self.check(NoWall, lambda: wall([0, 0, 1]))
+
+    def test_walls_that_may_not_stand(self):
+        self.check(NoWall, lambda: looked(1, [(1, 0), (1, 0)]))
+
+
+if __name__ == "__main__":
+    unittest.main()

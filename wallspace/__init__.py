@@ -1,0 +1,1 @@
+"""Walls through space, and the lands between them."""
