@@ -107,6 +107,9 @@ class Looked(Walls):
         self.assert_no_wall(0, lambda: looked(1, [(True, 0)]))
         self.assert_no_wall(1, lambda: looked(1, [(1, 3), (1, False)]))
 
+    def test_a_list_is_no_wall(self):
+        self.assert_no_wall(1, lambda: looked(1, [(1, 3), [1, 0]]))
+
     def test_alike_walls(self):
         self.assert_no_wall(1, lambda: looked(1, [(1, 0), (1, 0)]))
         self.assert_no_wall(2, lambda: looked(2, [(1, 0, 0), (0, 1, 0), (1, 0, 0), (0, 1, 0)]))
