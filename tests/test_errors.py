@@ -2,7 +2,9 @@ import unittest
 
 from wallspace import errors
 from wallspace.errors import NoFace, NoLand, NoNumber, NoPlace, NoWall, WallError
+from wallspace.lands import way_out
 from wallspace.ratios import over, ratio
+from wallspace.walks import between, walk
 from wallspace.walls import looked, wall
 
 REFUSALS = (NoNumber, NoLand, NoFace, NoPlace, NoWall)
@@ -54,6 +56,18 @@ class EachRefusal(unittest.TestCase):
 
     def test_walls_that_may_not_stand(self):
         self.check(NoWall, lambda: looked(1, [(1, 0), (1, 0)]))
+
+    def test_a_way_out_of_no_land(self):
+        self.check(NoLand, lambda: way_out(1, [(1, 0), (1, 1)], (-1, 1)))
+        self.check(NoLand, lambda: way_out(1, [(1, 0), (1, 1)], (1,)))
+
+    def test_walls_between_no_lands(self):
+        self.check(NoLand, lambda: between(1, [(1, 0), (1, 1)], (-1, 1), (1, 1)))
+        self.check(NoLand, lambda: between(1, [(1, 0), (1, 1)], (1, 1), (-1, 1)))
+
+    def test_a_walk_between_no_lands(self):
+        self.check(NoLand, lambda: walk(1, [(1, 0), (1, 1)], (-1, 1), (1, 1)))
+        self.check(NoLand, lambda: walk(1, [(1, 0), (1, 1)], (1, 1), (-1, 1)))
 
 
 if __name__ == "__main__":

@@ -15,6 +15,16 @@ ARGUMENTS = {
     },
     "walls": {"wall": ["numbers"], "looked": ["ways", "walls"], "side": ["wall", "point"]},
     "parts": {"common": ["ways", "walls", "lot"], "ladder": ["ways", "walls"]},
+    "polynomials": {
+        "worth": ["polynomial", "number"],
+        "by_ladder": ["ways", "walls"],
+        "by_lots": ["ways", "walls"],
+        "by_taking_out": ["ways", "walls"],
+        "drawn_into": ["ways", "walls", "place"],
+    },
+    "lands": {"lands": ["ways", "walls"], "way_out": ["ways", "walls", "signs"]},
+    "walks": {"between": ["ways", "walls", "one", "other"], "walk": ["ways", "walls", "one", "other"]},
+    "rests": {"off_all": ["ways", "walls", "prime"], "trouble": ["ways", "walls"]},
 }
 
 

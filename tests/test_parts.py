@@ -1,70 +1,10 @@
 import copy
 import itertools
-import math
 import unittest
-from fractions import Fraction
 
+from spaces import LONG, SPACES, all_lots, solved
 from wallspace.parts import common, ladder
 from wallspace.walls import looked, wall
-
-LONG = 10 ** 60 + 7
-
-# Lists of walls of all kinds: side by side, through one point, in general places, mixed.
-SPACES = [
-    (0, []),
-    (1, []),
-    (1, [(1, 0)]),
-    (1, [(1, 0), (1, 1), (2, 1), (3, -7)]),
-    (2, []),
-    (2, [(0, 1, 5)]),
-    (2, [(1, 1, 0), (1, 1, 1), (1, 1, 2)]),
-    (2, [(1, 0, 0), (0, 1, 0), (1, 1, 0), (1, -1, 0)]),
-    (2, [(1, 2, 3), (2, 1, 1), (1, -1, 7), (3, 1, 0), (1, 5, -2)]),
-    (2, [(1, 0, 0), (1, 0, 1), (0, 1, 0), (0, 1, 1), (1, -1, 0), (1, 1, 1)]),
-    (2, [(LONG, 1, 2), (1, LONG, 3), (LONG + 1, LONG + 1, 5), (LONG, 2, 2)]),
-    (3, []),
-    (3, [(1, 0, 0, 0), (0, 1, 0, 0), (0, 0, 1, 0)]),
-    (3, [(1, -1, 0, 0), (1, 0, -1, 0), (0, 1, -1, 0)]),
-    (3, [(1, -1, 0, 1), (1, 0, -1, 1), (0, 1, -1, 1)]),
-    (3, [(1, 1, 1, 1), (1, 1, 1, 2), (1, 2, 3, 0), (1, 0, 0, 0), (0, 2, -1, 4), (2, 3, 4, 1)]),
-    (4, []),
-    (4, [(0, 0, 0, 1, 0)]),
-    (4, [(1, 0, 0, 0, 0), (0, 1, 0, 0, 0), (0, 0, 1, 0, 0), (0, 0, 0, 1, 0), (1, 1, 1, 1, 1)]),
-    (4, [(1, -1, 0, 0, 0), (1, 0, -1, 0, 0), (1, 0, 0, -1, 0),
-         (0, 1, -1, 0, 0), (0, 1, 0, -1, 0), (0, 0, 1, -1, 0)]),
-    (4, [(1, 2, 0, 0, 1), (2, 4, 1, 0, 3), (3, 6, 1, 0, 4), (3, 6, 1, 0, 5), (0, 0, 1, 0, 1), (0, 0, 0, 2, 3)]),
-]
-
-
-def all_lots(walls):
-    places = range(len(walls))
-    return [list(lot) for count in range(len(walls) + 1) for lot in itertools.combinations(places, count)]
-
-
-def whole_row(row):
-    many = math.lcm(*[number.denominator for number in row])
-    numbers = [int(number * many) for number in row]
-    return tuple(number // math.gcd(*numbers) for number in numbers)
-
-
-def solved(ways, rows):
-    """Rows by Gauss and Jordan over Python's fractions, column by column, or None."""
-    table = [[Fraction(number) for number in row] for row in rows]
-    done = 0
-    for column in range(ways + 1):
-        found = [place for place in range(done, len(table)) if table[place][column] != 0]
-        if not found:
-            continue
-        if column == ways:
-            return None
-        table[done], table[found[0]] = table[found[0]], table[done]
-        table[done] = [number / table[done][column] for number in table[done]]
-        for place in range(len(table)):
-            if place != done:
-                times = table[place][column]
-                table[place] = [one - times * other for one, other in zip(table[place], table[done])]
-        done += 1
-    return [whole_row(row) for row in table[:done]]
 
 
 def holds(ways, outer, inner):

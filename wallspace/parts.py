@@ -19,6 +19,13 @@ def cleared(numbers, row):
     return [own * one - less * other for one, other in zip(numbers, row)]
 
 
+def drawn(row, numbers):
+    """Give a wall's numbers within the wall of a row, where the row's first way is left out."""
+    place = first_place(row)
+    rest = cleared(numbers, row)
+    return rest[:place] + rest[place + 1:]
+
+
 def rest_by(rows, numbers):
     """Give what is left of a wall's numbers where a part's rows are cleared from them."""
     rest = list(numbers)

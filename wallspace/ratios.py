@@ -12,6 +12,14 @@ def divisor(one, other):
     return abs(one)
 
 
+def divisor_of_all(numbers):
+    """Give the greatest whole number that divides all; where all are 0 it is 0."""
+    shared = 0
+    for number in numbers:
+        shared = divisor(shared, number)
+    return shared
+
+
 def ratio(top, bottom):
     """Give the fraction of two whole numbers; a bottom of 0 is refused."""
     if bottom == 0:

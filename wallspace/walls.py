@@ -1,16 +1,14 @@
 """Walls, each in its one form, and the sides of them."""
 
 from wallspace.errors import NoWall
-from wallspace.ratios import below, divisor, plus, times
+from wallspace.ratios import below, divisor_of_all, plus, times
 
 
 def wall(numbers):
     """Give the wall that a list of whole numbers makes, or refuse with NoWall."""
     if not any(numbers[:-1]):
         raise NoWall(0)
-    shared = 0
-    for number in numbers:
-        shared = divisor(shared, number)
+    shared = divisor_of_all(numbers)
     leading = [number for number in numbers if number != 0][0]
     if leading < 0:
         shared = -shared
