@@ -126,7 +126,8 @@ class Trouble(unittest.TestCase):
     def test_all_spaces(self):
         more = [
             (3, [(1, t, t ** 2, t ** 3) for t in range(-3, 5)]),
-            (4, [(1, 2, 0, -1, 3), (0, 3, 1, 1, 0), (2, 0, 1, 0, 5), (1, 1, 1, 1, 1), (3, -1, 0, 2, 7), (0, 0, 2, 5, 1)]),
+            (4, [(1, 2, 0, -1, 3), (0, 3, 1, 1, 0), (2, 0, 1, 0, 5),
+                 (1, 1, 1, 1, 1), (3, -1, 0, 2, 7), (0, 0, 2, 5, 1)]),
         ]
         for ways, walls in SPACES + more:
             wanted = math.lcm(*[number for number in all_determinants(ways, walls) if number != 0])
