@@ -101,6 +101,36 @@ def land_signs(walls):
     return found
 
 
+def has_signs(walls, signs):
+    """Whether some point lies above, on or below each wall as the signs tell."""
+    bounds = []
+    for one, sign in zip(walls, signs):
+        if sign == 0:
+            bounds += [(one, False), (tuple(-number for number in one), False)]
+        else:
+            bounds.append((tuple(sign * number for number in one), True))
+    return fits(bounds)
+
+
+def face_signs(walls):
+    """The signs of all faces, in order, by asking of all tuples of signs that go on from a face of fewer walls."""
+    found = [()]
+    for place in range(len(walls)):
+        tried = [signs + (sign,) for signs in found for sign in (-1, 0, 1)]
+        found = [signs for signs in tried if has_signs(walls, signs)]
+    return found
+
+
+def face_ways(ways, walls, signs):
+    """How many ways a face has: those of what the walls it lies on have in common."""
+    return ways - len(solved(ways, [one for one, sign in zip(walls, signs) if sign == 0]))
+
+
+def touching(faces, land):
+    """Those of the faces' signs that are the land's or 0 at each wall."""
+    return [signs for signs in faces if all(sign in (0, own) for sign, own in zip(signs, land, strict=True))]
+
+
 def goes_on(ways, walls, signs):
     """Whether a land goes on in a way, by asking for one whose number of some way is 1 or -1."""
     for place, step in itertools.product(range(ways), (1, -1)):

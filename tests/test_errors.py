@@ -2,6 +2,8 @@ import unittest
 
 from wallspace import errors
 from wallspace.errors import NoFace, NoLand, NoNumber, NoPlace, NoWall, WallError
+from wallspace.faces import borders, corners, put_ahead
+from wallspace.hall import Hall
 from wallspace.lands import way_out
 from wallspace.ratios import over, ratio
 from wallspace.walks import between, walk
@@ -23,7 +25,7 @@ class TheClasses(unittest.TestCase):
             self.assertEqual(getattr(errors, name).__name__, name)
 
     def test_no_wall_keeps_its_place(self):
-        for place in (0, 1, 11, 10 ** 40):
+        for place in (0, 1, 11, 10 ** 40, 10 ** 6000):
             self.assertEqual(NoWall(place).place, place)
         self.assertEqual(NoWall(place=3).place, 3)
 
@@ -68,6 +70,29 @@ class EachRefusal(unittest.TestCase):
     def test_a_walk_between_no_lands(self):
         self.check(NoLand, lambda: walk(1, [(1, 0), (1, 1)], (-1, 1), (1, 1)))
         self.check(NoLand, lambda: walk(1, [(1, 0), (1, 1)], (1, 1), (-1, 1)))
+
+    def test_a_face_put_ahead_of_another_one(self):
+        self.check(NoFace, lambda: put_ahead(1, [(1, 0), (1, 1)], (-1, 0), (1, 1)))
+        self.check(NoFace, lambda: put_ahead(1, [(1, 0), (1, 1)], (1, 1), (0, 0)))
+        self.check(NoFace, lambda: put_ahead(1, [(1, 0), (1, 1)], (1, 1), (1,)))
+
+    def test_borders_and_corners_of_no_land(self):
+        for deed in (borders, corners):
+            self.check(NoLand, lambda: deed(1, [(1, 0), (1, 1)], (-1, 1)))
+            self.check(NoLand, lambda: deed(1, [(1, 0), (1, 1)], (0, -1)))
+            self.check(NoLand, lambda: deed(1, [(1, 0), (1, 1)], (1, 1, 1)))
+
+    def test_a_wall_that_may_not_be_put_in(self):
+        hall = Hall(1)
+        hall.put([1, 0])
+        self.check(NoWall, lambda: hall.put([0, 1]))
+        self.check(NoWall, lambda: hall.put([-2, 0]))
+
+    def test_a_place_where_no_wall_stands(self):
+        hall = Hall(1)
+        hall.put([1, 0])
+        self.check(NoPlace, lambda: hall.take(1))
+        self.check(NoPlace, lambda: hall.take(-1))
 
 
 if __name__ == "__main__":

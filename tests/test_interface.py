@@ -1,5 +1,6 @@
 import importlib
 import inspect
+import operator
 import unittest
 
 ARGUMENTS = {
@@ -25,6 +26,23 @@ ARGUMENTS = {
     "lands": {"lands": ["ways", "walls"], "way_out": ["ways", "walls", "signs"]},
     "walks": {"between": ["ways", "walls", "one", "other"], "walk": ["ways", "walls", "one", "other"]},
     "rests": {"off_all": ["ways", "walls", "prime"], "trouble": ["ways", "walls"]},
+    "rings": {"rings": ["ways", "walls"], "unbroken": ["ways", "walls"], "by_unbroken": ["ways", "walls"]},
+    "pairs": {"of_pairs": ["ways", "pairs"], "runnings": ["ways", "pairs"]},
+    "hall": {
+        "Hall": ["ways"],
+        "Hall.put": ["self", "numbers"],
+        "Hall.take": ["self", "place"],
+        "Hall.walls": ["self"],
+        "Hall.polynomial": ["self"],
+        "Hall.lands": ["self"],
+        "Hall.ways_out": ["self"],
+    },
+    "faces": {
+        "faces": ["ways", "walls"],
+        "put_ahead": ["ways", "walls", "one", "other"],
+        "borders": ["ways", "walls", "signs"],
+        "corners": ["ways", "walls", "signs"],
+    },
 }
 
 
@@ -33,7 +51,7 @@ class TheInterface(unittest.TestCase):
         for module, names in ARGUMENTS.items():
             held = importlib.import_module("wallspace." + module)
             for name, arguments in names.items():
-                found = list(inspect.signature(getattr(held, name)).parameters)
+                found = list(inspect.signature(operator.attrgetter(name)(held)).parameters)
                 self.assertEqual(found, arguments, module + "." + name)
 
 

@@ -32,6 +32,10 @@ isupper items join keys ljust lower lstrip partition pop remove replace reverse 
 rsplit rstrip setdefault split splitlines startswith strip update upper values zfill bit_length __init__
 """.split()
 
+# What walks something is to be walked on the spot: here, or behind an `in`.
+WALKERS = "zip enumerate reversed range items keys values".split()
+WALKED_IN = "list tuple dict sorted sum any all enumerate zip min max join".split()
+
 WORDS = re.compile(
     r"\b(type|typing|typing_extensions|enum|Enum|IntEnum|StrEnum|Flag|IntFlag|Generic|Protocol|ABC|ABCMeta"
     r"|namedtuple|NamedTuple|TypedDict|TYPE_CHECKING|abstractmethod)\b|dataclass|overload|contextmanager"
@@ -48,6 +52,20 @@ def trees():
 
 def nodes(*kinds):
     return [(name, node) for name, tree in trees() for node in ast.walk(tree) if isinstance(node, kinds)]
+
+
+def called(node):
+    """The name that a call calls, if it is one."""
+    func = node.func if isinstance(node, ast.Call) else None
+    return func.attr if isinstance(func, ast.Attribute) else getattr(func, "id", None)
+
+
+def drawn_from():
+    """For each module of the package those that it draws from."""
+    found = {name.removesuffix(".py"): [] for name, tree in trees()}
+    for name, node in nodes(ast.ImportFrom):
+        found[name.removesuffix(".py")].append(node.module.partition(".")[2])
+    return found
 
 
 def bound_names():
@@ -116,7 +134,43 @@ class TheForms(unittest.TestCase):
             self.assertEqual([alias.asname for alias in node.names if alias.asname or alias.name == "*"], [])
 
 
+    def test_imports_come_from_the_file_that_defines_the_name(self):
+        defined = {name: [getattr(node, "name", None) for node in tree.body] for name, tree in trees()}
+        for name, node in nodes(ast.ImportFrom):
+            for alias in node.names:
+                self.assertIn(alias.name, defined[node.module.partition(".")[2] + ".py"], (name, node.lineno))
+
+    def test_no_two_files_draw_from_one_another(self):
+        left = drawn_from()
+        while left:
+            free = [name for name, others in left.items() if not any(other in left for other in others)]
+            self.assertNotEqual(free, [], left)
+            left = {name: others for name, others in left.items() if name not in free}
+
+    def test_what_walks_is_walked_on_the_spot(self):
+        walked = [node.iter for name, node in nodes(ast.For, ast.comprehension)]
+        walked += [node.args[0] for name, node in nodes(ast.Call) if called(node) in WALKED_IN and node.args]
+        places = [(node.lineno, node.col_offset) for node in walked]
+        for name, node in nodes(ast.Call):
+            if called(node) in WALKERS:
+                self.assertIn((node.lineno, node.col_offset), places, (name, node.lineno))
+
+    def test_no_sets_and_no_powers(self):
+        self.assertEqual(nodes(ast.Set, ast.Pow), [])
+        for name, node in nodes(ast.Call):
+            self.assertNotIn(called(node), ("set", "frozenset", "chr"), (name, node.lineno))
+
+
 class TheNames(unittest.TestCase):
+    def test_no_method_is_a_value_too(self):
+        methods = [inner.name for name, node in nodes(ast.ClassDef) for inner in node.body
+                   if isinstance(inner, ast.FunctionDef) and inner.name != "__init__"]
+        values = [node.attr for name, node in nodes(ast.Attribute) if isinstance(node.ctx, ast.Store)]
+        pythons_own = [dir(value) for value in ("", 0, [], {}, set(), b"", ())]
+        for name in methods + values:
+            self.assertFalse(name in methods and name in values, name)
+            self.assertFalse(any(name in names for names in pythons_own), name)
+
     def test_bound_names_are_plain_and_own(self):
         for name in bound_names():
             if name != "__init__":

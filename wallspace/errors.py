@@ -25,5 +25,6 @@ class NoWall(WallError):
     """The numbers at a place make no wall, or none that may stand there."""
 
     def __init__(self, place):
-        WallError.__init__(self, f"no wall at place {place}")
+        # Words would have to write the place out, which Python refuses for numbers of some thousand figures.
+        WallError.__init__(self, place)
         self.place = place

@@ -32,13 +32,17 @@ def lead(bound):
     return 1 if bound[first_place(bound)] > 0 else -1
 
 
-def lifted(row, spot):
-    """Give the spot on a wall that is known in it by its numbers of all ways but the row's first one."""
-    place = first_place(row)
-    known = spot[:place] + [0] + spot[place:]
-    whole = [row[place] * number for number in known]
-    whole[place] = 0 - height(row, known)
-    return lowest(whole)
+def lifted(rows, spot):
+    """Give the spot of a part that is known in it by its numbers of all ways but the first ones of the rows."""
+    known = list(spot)
+    for row in rows:
+        known.insert(first_place(row), 0)
+    for row in rows:
+        place = first_place(row)
+        missing = 0 - height(row, known)
+        known = [row[place] * number for number in known]
+        known[place] = missing
+    return lowest(known)
 
 
 def stepped(bounds, spot, place, sign):
@@ -59,10 +63,10 @@ def spot_across(ways, bounds, bound):
     # From that point the line to any good one stays within the bounds and leads over the wall of the one more:
     # so it is enough to look on that wall, a space with a way less.
     row = turned(bound, lead(bound))
-    found = spot_within(ways - 1, [drawn(row, other) for other in bounds])
+    found = spot_within(ways - 1, [drawn([row], other) for other in bounds])
     if found is None:
         return None
-    return stepped(bounds, lifted(row, found), first_place(bound), lead(bound))
+    return stepped(bounds, lifted([row], found), first_place(bound), lead(bound))
 
 
 def spot_within(ways, bounds):
@@ -94,12 +98,22 @@ def parted(ways, walls, found, numbers):
     return more
 
 
-def lands(ways, walls):
-    """Give all lands as tuples (signs, point), in the order of signs."""
+def land_spots(ways, walls):
+    """Give all lands as tuples (signs, spot), in the order of signs."""
     found = [((), [0] * ways + [1])]
     for place, numbers in enumerate(walls):
         found = parted(ways, walls[:place], found, numbers)
-    return [(signs, tuple([ratio(top, spot[-1]) for top in spot[:-1]])) for signs, spot in found]
+    return found
+
+
+def point_of(spot):
+    """Give a spot as a point."""
+    return tuple([ratio(top, spot[-1]) for top in spot[:-1]])
+
+
+def lands(ways, walls):
+    """Give all lands as tuples (signs, point), in the order of signs."""
+    return [(signs, point_of(spot)) for signs, spot in land_spots(ways, walls)]
 
 
 def is_land(ways, walls, signs):
@@ -123,8 +137,8 @@ def way_along(ways, bounds, bound, way):
         return turned(way, -1)
     # The way at hand can't be turned, so between it and any good one lies a way along the wall of the one more.
     row = turned(bound, lead(bound))
-    found = way_within(ways - 1, [drawn(row, other) for other in bounds])
-    return None if found is None else lifted(row, found)
+    found = way_within(ways - 1, [drawn([row], other) for other in bounds])
+    return None if found is None else lifted([row], found)
 
 
 def way_within(ways, bounds):

@@ -19,19 +19,29 @@ def cleared(numbers, row):
     return [own * one - less * other for one, other in zip(numbers, row)]
 
 
-def drawn(row, numbers):
-    """Give a wall's numbers within the wall of a row, where the row's first way is left out."""
-    place = first_place(row)
-    rest = cleared(numbers, row)
-    return rest[:place] + rest[place + 1:]
-
-
 def rest_by(rows, numbers):
     """Give what is left of a wall's numbers where a part's rows are cleared from them."""
     rest = list(numbers)
     for row in rows:
         rest = cleared(rest, row)
     return rest
+
+
+def drawn(rows, numbers):
+    """Give a wall's numbers within the part of some rows, where the first way of each row is left out."""
+    left_out = [first_place(row) for row in rows]
+    return [number for place, number in enumerate(rest_by(rows, numbers)) if place not in left_out]
+
+
+def walls_within(rows, walls):
+    """Give the walls drawn into a part, alike ones once, but those that hold it or do not meet it."""
+    met = {}
+    for numbers in walls:
+        rest = drawn(rows, numbers)
+        # Where no number of the ways is left, the wall has all points of the part or none.
+        if any(rest[:-1]):
+            met[wall(rest)] = True
+    return list(met)
 
 
 def joined(rows, numbers):

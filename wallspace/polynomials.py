@@ -1,7 +1,6 @@
 """The polynomial of walls, told in several ways."""
 
-from wallspace.parts import drawn, joined, ladder
-from wallspace.walls import wall
+from wallspace.parts import joined, ladder, walls_within
 
 
 def worth(polynomial, number):
@@ -43,14 +42,7 @@ def by_lots(ways, walls):
 
 def drawn_into(ways, walls, place):
     """Give the walls drawn into the one at a place, as walls of the space with a way less."""
-    others = walls[:place] + walls[place + 1:]
-    rests = [drawn(walls[place], numbers) for numbers in others]
-    # Where no number of the ways is left, the two walls stand side by side and do not meet.
-    met = {}
-    for rest in rests:
-        if any(rest[:-1]):
-            met[wall(rest)] = True
-    return list(met)
+    return walls_within([walls[place]], walls)
 
 
 def by_taking_out(ways, walls):
